@@ -1,0 +1,98 @@
+package trust_test
+
+import (
+	"math"
+	"math/rand"
+	"strings"
+	"testing"
+
+	"trustquery/trust"
+)
+
+// deepSets are nestings and rows about as long as a set may be, right and wrong.
+func deepSets() []string {
+	sets := []string{}
+	for _, c := range []struct{ open, middle, close string }{
+		{"!", "true", ""}, {"!", "", ""},
+		{"-", "1", ""}, {"-", "1", "<1"}, {"- ", "", ""},
+		{"(", "true", ")"}, {"(", "true", ""}, {"(", "", ""}, {"(", "1", "+1)"},
+		{"1==1->{", "true", "}"}, {"1->{", "1", "}"}, {"1->{", "", ""},
+		{"1+", "1", ""}, {"1*-", "1", ""}, {"true&&", "true", ""}, {"true||!", "true", ""}, {"true;", "true", ""},
+	} {
+		n := (580 - len(c.middle)) / (len(c.open) + len(c.close))
+		sets = append(sets, cond(strings.Repeat(c.open, n)+c.middle+strings.Repeat(c.close, n)))
+	}
+	for _, c := range []struct{ open, close string }{
+		{"(", ")"}, {"(", ""}, {"1-of(", ")"}, {"1-of(", ""}, {"9-of(A,", ")"}, {"A&&", ""}, {"A||(", ")"},
+	} {
+		n := 570 / (len(c.open) + len(c.close))
+		sets = append(sets, to(strings.Repeat(c.open, n)+"A"+strings.Repeat(c.close, n)))
+	}
+	return sets
+}
+
+func callAll(text string, k int, other string) {
+	trust.Check(text)
+	trust.Print(text)
+	trust.Worth(text, other)
+	trust.Cond(text, k, other, other)
+	trust.Query(text, other, other, other)
+	trust.Chain(text, other, other, other)
+}
+
+// P1: a panic or a call without end fails the test.
+func TestEveryCallEnds(t *testing.T) {
+	random := rand.New(rand.NewSource(1))
+	texts := append(deepSets(), "", "\x00", "\n", "by ", "by A\nto 9", "by A\nto B\nif \"", "\xff\xfe", strings.Repeat("(", 600), strings.Repeat("b", 5000000))
+	for i := 0; i < 2000; i++ {
+		raw := make([]byte, random.Intn(40))
+		for j := range raw {
+			raw[j] = byte(random.Intn(256))
+		}
+		texts = append(texts, string(raw), to(string(raw)), cond(string(raw)))
+	}
+	for _, text := range texts {
+		for _, k := range []int{0, 8, -1, math.MinInt, math.MaxInt} {
+			callAll(text, k, "")
+		}
+		callAll(plain, 0, text)
+	}
+}
+
+func TestDeepSetsAreRead(t *testing.T) {
+	runChecks(t, []checkCase{
+		{cond(strings.Repeat("!", 582) + "true"), trust.OK, 0},
+		{cond(strings.Repeat("-", 580) + "1 == 1"), trust.OK, 0},
+		{cond(strings.Repeat("(", 290) + "true" + strings.Repeat(")", 290)), trust.OK, 0},
+		{cond(strings.Repeat("(", 290) + "1" + strings.Repeat(")", 290)), trust.ErrType, 13},
+		{cond(strings.Repeat("true->{", 72) + "1" + strings.Repeat("}", 72)), trust.ErrType, 13 + 72*7},
+		{to(strings.Repeat("1-of(", 90) + "2-of(B)" + strings.Repeat(")", 90)), trust.ErrCount, 8 + 90*5},
+	})
+}
+
+// P2: neither the calls ahead of it nor their order change an answer.
+func TestNothingIsKept(t *testing.T) {
+	sets := append(deepSets(), "", plain, "x", to("0-of(B)"), cond("1"), strings.Repeat(plain, 9), strings.Repeat(plain, 8), cond("a.b==c->{true->no}"))
+	type answer struct {
+		errno   trust.Errno
+		place   int
+		printed string
+	}
+	ask := func(set string) answer {
+		errno, place := trust.Check(set)
+		printed, again := trust.Print(set)
+		if again != errno {
+			t.Errorf("Print(%.90q) = %d, Check %d", set, again, errno)
+		}
+		return answer{errno, place, printed}
+	}
+	first := []answer{}
+	for _, set := range sets {
+		first = append(first, ask(set))
+	}
+	for i := len(sets) - 1; i >= 0; i-- {
+		if now := ask(sets[i]); now != first[i] {
+			t.Errorf("%.90q: at first %v, then %v", sets[i], first[i], now)
+		}
+	}
+}
