@@ -9,18 +9,27 @@ import (
 	"trustquery/trust"
 )
 
-// deepSets are nestings and rows about as long as a set may be, right and wrong.
-func deepSets() []string {
-	sets := []string{}
+// deepConds are nestings and rows about as long as a set may be, right and wrong.
+func deepConds() []string {
+	conds := []string{}
 	for _, c := range []struct{ open, middle, close string }{
 		{"!", "true", ""}, {"!", "", ""},
 		{"-", "1", ""}, {"-", "1", "<1"}, {"- ", "", ""},
 		{"(", "true", ")"}, {"(", "true", ""}, {"(", "", ""}, {"(", "1", "+1)"},
 		{"1==1->{", "true", "}"}, {"1->{", "1", "}"}, {"1->{", "", ""},
 		{"1+", "1", ""}, {"1*-", "1", ""}, {"true&&", "true", ""}, {"true||!", "true", ""}, {"true;", "true", ""},
+		{"a.", "a", ""}, {"a.", "a", " "}, {"a.(", "a", ")"}, {"9*", "9", ""}, {"1/", "0", ""}, {"@a%", "@a", ""},
 	} {
 		n := (580 - len(c.middle)) / (len(c.open) + len(c.close))
-		sets = append(sets, cond(strings.Repeat(c.open, n)+c.middle+strings.Repeat(c.close, n)))
+		conds = append(conds, strings.Repeat(c.open, n)+c.middle+strings.Repeat(c.close, n))
+	}
+	return conds
+}
+
+func deepSets() []string {
+	sets := []string{}
+	for _, conds := range deepConds() {
+		sets = append(sets, cond(conds))
 	}
 	for _, c := range []struct{ open, close string }{
 		{"(", ")"}, {"(", ""}, {"1-of(", ")"}, {"1-of(", ""}, {"9-of(A,", ")"}, {"A&&", ""}, {"A||(", ")"},
@@ -35,7 +44,11 @@ func callAll(text string, k int, other string) {
 	trust.Check(text)
 	trust.Print(text)
 	trust.Worth(text, other)
+	trust.Worth(text, "a=12345678901234567890")
 	trust.Cond(text, k, other, other)
+	trust.Cond(text, k, "a=-1", "no,yes")
+	trust.Cond(text, k, other, "no,yes")
+	trust.Cond(text, k, "", other)
 	trust.Query(text, other, other, other)
 	trust.Chain(text, other, other, other)
 }
@@ -43,13 +56,14 @@ func callAll(text string, k int, other string) {
 // P1: a panic or a call without end fails the test.
 func TestEveryCallEnds(t *testing.T) {
 	random := rand.New(rand.NewSource(1))
-	texts := append(deepSets(), "", "\x00", "\n", "by ", "by A\nto 9", "by A\nto B\nif \"", "\xff\xfe", strings.Repeat("(", 600), strings.Repeat("b", 5000000))
+	texts := append(deepSets(), deepConds()...)
+	texts = append(texts, "", "\x00", "\n", "by ", "by A\nto 9", "by A\nto B\nif \"", "\xff\xfe", strings.Repeat("(", 600), strings.Repeat("b", 5000000))
 	for i := 0; i < 2000; i++ {
 		raw := make([]byte, random.Intn(40))
 		for j := range raw {
 			raw[j] = byte(random.Intn(256))
 		}
-		texts = append(texts, string(raw), to(string(raw)), cond(string(raw)))
+		texts = append(texts, string(raw), to(string(raw)), cond(string(raw)), "a="+string(raw))
 	}
 	for _, text := range texts {
 		for _, k := range []int{0, 8, -1, math.MinInt, math.MaxInt} {
@@ -72,27 +86,35 @@ func TestDeepSetsAreRead(t *testing.T) {
 
 // P2: neither the calls ahead of it nor their order change an answer.
 func TestNothingIsKept(t *testing.T) {
-	sets := append(deepSets(), "", plain, "x", to("0-of(B)"), cond("1"), strings.Repeat(plain, 9), strings.Repeat(plain, 8), cond("a.b==c->{true->no}"))
+	texts := append(deepSets(), deepConds()...)
+	texts = append(texts, "", plain, "x", to("0-of(B)"), cond("1"), strings.Repeat(plain, 9), strings.Repeat(plain, 8), cond("a.b==c->{true->no}"))
+	texts = append(texts, "@a", "a", "1/0", "a.b", cond("@a==1->no"), cond("a==b"))
+	lists := [][2]string{{"", "no,yes"}, {"a=1", "yes,no"}, {"a=x;b=x", "no,yes"}, {"=", ","}}
 	type answer struct {
-		errno   trust.Errno
-		place   int
-		printed string
+		checked, worth, cond trust.Errno
+		place                int
+		printed, text, value string
 	}
-	ask := func(set string) answer {
-		errno, place := trust.Check(set)
-		printed, again := trust.Print(set)
-		if again != errno {
-			t.Errorf("Print(%.90q) = %d, Check %d", set, again, errno)
+	ask := func(i int) answer {
+		text, list := texts[i/len(lists)], lists[i%len(lists)]
+		a := answer{}
+		a.checked, a.place = trust.Check(text)
+		printed, again := trust.Print(text)
+		if again != a.checked {
+			t.Errorf("Print(%.90q) = %d, Check %d", text, again, a.checked)
 		}
-		return answer{errno, place, printed}
+		a.printed = printed
+		a.text, a.worth = trust.Worth(text, list[0])
+		a.value, a.cond = trust.Cond(text, 0, list[0], list[1])
+		return a
 	}
 	first := []answer{}
-	for _, set := range sets {
-		first = append(first, ask(set))
+	for i := 0; i < len(texts)*len(lists); i++ {
+		first = append(first, ask(i))
 	}
-	for i := len(sets) - 1; i >= 0; i-- {
-		if now := ask(sets[i]); now != first[i] {
-			t.Errorf("%.90q: at first %v, then %v", sets[i], first[i], now)
+	for i := len(first) - 1; i >= 0; i-- {
+		if now := ask(i); now != first[i] {
+			t.Errorf("%.90q: at first %v, then %v", texts[i/len(lists)], first[i], now)
 		}
 	}
 }

@@ -41,6 +41,16 @@ func TestExamples(t *testing.T) {
 	})
 }
 
+func TestErrorNumbers(t *testing.T) {
+	for number, errno := range []trust.Errno{
+		trust.OK, trust.ErrLong, trust.ErrSyntax, trust.ErrMany, trust.ErrCount, trust.ErrType, trust.ErrList, trust.ErrValue, trust.ErrNone,
+	} {
+		if int(errno) != number {
+			t.Errorf("error %d is %d", number, errno)
+		}
+	}
+}
+
 func TestLength(t *testing.T) {
 	full := cond(strings.Repeat(" ", 600-len(plain)) + "true")
 	runChecks(t, []checkCase{

@@ -74,7 +74,7 @@ func (m *maker) leaf(kind byte) *term {
 	case 'b':
 		text = m.pick("true", "false")
 	case 'n':
-		text = m.pick("0", "7", "123456789", "@n", "@true")
+		text = m.pick("0", "1", "7", "31623", "999999999", "@n", "@true")
 	default:
 		text = m.pick("a", "truth", "\"\"", "\"a b\"", "\"->\"")
 	}
@@ -153,45 +153,68 @@ func (x *term) check() (byte, int) {
 	return 0, x.place
 }
 
-// clauses writes CONDS and answers how Print shows them and the place of the
-// first wrong type, or 0.
-func (m *maker) clauses(depth int) (string, int) {
-	printed, fault := "", 0
-	note := func(place int) {
-		if fault == 0 {
-			fault = place
-		}
-	}
+// A madeClause is a clause as it was written.
+type madeClause struct {
+	test   *term
+	start  int
+	result string
+	inner  []madeClause
+}
+
+func (m *maker) clauses(depth int) []madeClause {
+	list := []madeClause{}
 	for n := 1 + m.random.Intn(2); n > 0; n-- {
-		x := m.term('b', 1+m.random.Intn(3))
-		start := m.out.Len()
-		m.write(x, 0)
-		kind, place := x.check()
-		if kind == 0 {
-			note(place)
-		} else if kind != 'b' {
-			note(start)
-		}
-		printed += x.printed()
+		c := madeClause{test: m.term('b', 1+m.random.Intn(3)), start: m.out.Len()}
+		m.write(c.test, 0)
 		switch result := m.random.Intn(3); {
 		case result == 0:
+			c.result = m.pick("no", "maybe", "yes")
 			m.token("->")
-			m.token("yes")
-			printed += " -> yes"
+			m.token(c.result)
 		case result == 1 && depth > 0:
 			m.token("->")
 			m.token("{")
-			inner, innerFault := m.clauses(depth - 1)
+			c.inner = m.clauses(depth - 1)
 			m.token("}")
-			printed += " -> {" + inner + "}"
-			note(innerFault)
 		}
+		list = append(list, c)
 		if n > 1 {
 			m.token(";")
-			printed += "; "
 		}
 	}
-	return printed, fault
+	return list
+}
+
+func printedClauses(list []madeClause) string {
+	texts := []string{}
+	for _, c := range list {
+		text := c.test.printed()
+		if c.result != "" {
+			text += " -> " + c.result
+		}
+		if c.inner != nil {
+			text += " -> {" + printedClauses(c.inner) + "}"
+		}
+		texts = append(texts, text)
+	}
+	return strings.Join(texts, "; ")
+}
+
+// clausesFault answers the place of the first wrong type, or 0.
+func clausesFault(list []madeClause) int {
+	for _, c := range list {
+		kind, place := c.test.check()
+		if kind == 0 {
+			return place
+		}
+		if kind != 'b' {
+			return c.start
+		}
+		if place = clausesFault(c.inner); place > 0 {
+			return place
+		}
+	}
+	return 0
 }
 
 func TestRandomConds(t *testing.T) {
@@ -201,8 +224,9 @@ func TestRandomConds(t *testing.T) {
 		m.slips = 10 + 1000*(i%2)
 		m.out.Reset()
 		m.out.WriteString("by A\nto B\nif ")
-		printed, place := m.clauses(2)
+		made := m.clauses(2)
 		m.out.WriteString("\n")
+		printed, place := printedClauses(made), clausesFault(made)
 		set := m.out.String()
 		if len(set) > 600 {
 			continue

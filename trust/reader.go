@@ -75,7 +75,8 @@ func (r *reader) atArrow() bool {
 	return r.text[r.at+1] == '>'
 }
 
-func (r *reader) name() string {
+// bareName reads a name and no blanks behind it.
+func (r *reader) bareName() string {
 	from := r.at
 	for r.at-from < maxName && r.atLetter() {
 		r.at++
@@ -84,12 +85,17 @@ func (r *reader) name() string {
 		r.fail()
 		return ""
 	}
-	name := r.text[from:r.at]
+	return r.text[from:r.at]
+}
+
+func (r *reader) name() string {
+	name := r.bareName()
 	r.blanks()
 	return name
 }
 
-func (r *reader) number() string {
+// bareNumber reads a number and no blanks behind it.
+func (r *reader) bareNumber() string {
 	from := r.at
 	most := maxDigits
 	if r.peek() == '0' {
@@ -102,9 +108,20 @@ func (r *reader) number() string {
 		r.fail()
 		return ""
 	}
-	number := r.text[from:r.at]
+	return r.text[from:r.at]
+}
+
+func (r *reader) number() string {
+	number := r.bareNumber()
 	r.blanks()
 	return number
+}
+
+// end fails unless the whole text is read.
+func (r *reader) end() {
+	if r.at < len(r.text) {
+		r.fail()
+	}
 }
 
 // quoted answers what stands between the two quotation marks.

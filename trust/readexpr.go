@@ -1,5 +1,15 @@
 package trust
 
+// readExpr answers a bad reader if the text is no expression, else the place
+// of the whole expression in the reader's tree, too.
+func readExpr(text string) (reader, int) {
+	r := reader{text: text}
+	r.blanks()
+	whole := r.expr()
+	r.end()
+	return r, whole
+}
+
 func (r *reader) expr() int {
 	left := r.exprAnd()
 	for r.peek() == '|' {

@@ -32,10 +32,39 @@ func Print(set string) (string, Errno) {
 }
 
 // Worth tells what an expression is worth (P5).
-func Worth(expr string, attrs string) (string, Errno) { return "", OK }
+func Worth(expr string, attrs string) (string, Errno) {
+	if len(expr) > maxText || len(attrs) > maxAttrs {
+		return "", ErrLong
+	}
+	r, whole := readExpr(expr)
+	if r.bad {
+		return "", ErrSyntax
+	}
+	if r.tree.typeFault() != noPlace {
+		return "", ErrType
+	}
+	list, bad := readAttrs(attrs)
+	if bad {
+		return "", ErrList
+	}
+	worths := r.tree.worths(list)
+	own := worthAt(worths, whole)
+	return own.printed(), OK
+}
 
 // Cond tells what an assertion's conditions are worth (P6).
-func Cond(set string, k int, attrs string, values string) (string, Errno) { return "", OK }
+func Cond(set string, k int, attrs string, values string) (string, Errno) {
+	g := readGround(set, attrs, values)
+	if g.errno != OK {
+		return "", g.errno
+	}
+	if k < 0 || k >= len(g.tree.asserts) {
+		return "", ErrNone
+	}
+	levels := g.condsLevels()
+	level := levelAt(levels, g.tree.asserts[k].conds)
+	return g.valueAt(level), OK
+}
 
 // Query tells at which value POLICY stands (P7).
 func Query(set string, attrs string, values string, reqs string) (string, Errno) { return "", OK }
