@@ -49,8 +49,10 @@ func callAll(text string, k int, other string) {
 	trust.Cond(text, k, "a=-1", "no,yes")
 	trust.Cond(text, k, other, "no,yes")
 	trust.Cond(text, k, "", other)
-	trust.Query(text, other, other, other)
-	trust.Chain(text, other, other, other)
+	for _, lists := range [][3]string{{other, other, other}, {"a=-1", "no,yes", "A"}, {other, "no,yes", "B"}, {"", other, "B"}, {"", "no,yes", other}} {
+		trust.Query(text, lists[0], lists[1], lists[2])
+		trust.Chain(text, lists[0], lists[1], lists[2])
+	}
 }
 
 // P1: a panic or a call without end fails the test.
@@ -89,11 +91,12 @@ func TestNothingIsKept(t *testing.T) {
 	texts := append(deepSets(), deepConds()...)
 	texts = append(texts, "", plain, "x", to("0-of(B)"), cond("1"), strings.Repeat(plain, 9), strings.Repeat(plain, 8), cond("a.b==c->{true->no}"))
 	texts = append(texts, "@a", "a", "1/0", "a.b", cond("@a==1->no"), cond("a==b"))
-	lists := [][2]string{{"", "no,yes"}, {"a=1", "yes,no"}, {"a=x;b=x", "no,yes"}, {"=", ","}}
+	texts = append(texts, said("POLICY", "A", "true")+plain, said("POLICY", "1-of(A, B)", "@a == 1")+cond("true -> no"))
+	lists := [][3]string{{"", "no,yes", "A"}, {"a=1", "yes,no", "B"}, {"a=x;b=x", "no,yes", ""}, {"a=1", "no,yes", "A,B"}, {"=", ",", ","}}
 	type answer struct {
-		checked, worth, cond trust.Errno
-		place                int
-		printed, text, value string
+		checked, worth, cond, query, chain  trust.Errno
+		place                               int
+		printed, text, value, standing, row string
 	}
 	ask := func(i int) answer {
 		text, list := texts[i/len(lists)], lists[i%len(lists)]
@@ -106,6 +109,8 @@ func TestNothingIsKept(t *testing.T) {
 		a.printed = printed
 		a.text, a.worth = trust.Worth(text, list[0])
 		a.value, a.cond = trust.Cond(text, 0, list[0], list[1])
+		a.standing, a.query = trust.Query(text, list[0], list[1], list[2])
+		a.row, a.chain = trust.Chain(text, list[0], list[1], list[2])
 		return a
 	}
 	first := []answer{}

@@ -7,10 +7,12 @@ type ground struct {
 	tree   tree
 	attrs  []attribute
 	values []string
+	reqs   []string
 }
 
-func readGround(set string, attrs string, values string) ground {
-	if len(set) > maxText || len(attrs) > maxAttrs || len(values) > maxNames {
+// readGround takes the empty text for requesters where a call has none.
+func readGround(set string, attrs string, values string, reqs string) ground {
+	if len(set) > maxText || len(attrs) > maxAttrs || len(values) > maxNames || len(reqs) > maxNames {
 		return ground{errno: ErrLong}
 	}
 	c := checkSet(set)
@@ -19,13 +21,14 @@ func readGround(set string, attrs string, values string) ground {
 	}
 	attrList, badAttrs := readAttrs(attrs)
 	valueList, badValues := readValues(values)
-	if badAttrs || badValues {
+	reqList, badReqs := readRequesters(reqs)
+	if badAttrs || badValues || badReqs {
 		return ground{errno: ErrList}
 	}
 	if c.tree.hasOtherResult(valueList) {
 		return ground{errno: ErrValue}
 	}
-	return ground{errno: OK, tree: c.tree, attrs: attrList, values: valueList}
+	return ground{errno: OK, tree: c.tree, attrs: attrList, values: valueList, reqs: reqList}
 }
 
 // hasOtherResult tells whether a result anywhere in the set is no value.
@@ -70,17 +73,13 @@ func (g *ground) resultLevel(c clause, levels []int) int {
 	case resultName:
 		return placeOf(g.values, c.result)
 	case resultConds:
-		return levelAt(levels, c.inner)
+		return entryAt(levels, c.inner)
 	}
-	return len(g.values) - 1
+	return g.top()
 }
 
-func levelAt(levels []int, i int) int {
-	if i < 0 || i >= len(levels) {
-		return 0
-	}
-	return levels[i]
-}
+// top is the level of the highest value.
+func (g *ground) top() int { return len(g.values) - 1 }
 
 func (g *ground) valueAt(level int) string {
 	if level < 0 || level >= len(g.values) {

@@ -6,7 +6,10 @@ const (
 	maxValue  = 20
 	minValues = 2
 	maxValues = 5
+	maxReqs   = 4
 )
+
+const policy = "POLICY"
 
 type attribute struct {
 	name  string
@@ -81,6 +84,19 @@ func readValues(text string) ([]string, bool) {
 	return list, false
 }
 
+// readRequesters answers true if the text is no list of requesters. One who is
+// named twice is no fault.
+func readRequesters(text string) ([]string, bool) {
+	if text == "" {
+		return []string{}, false
+	}
+	list, bad := readNames(text)
+	if bad || len(list) > maxReqs || placeOf(list, policy) != noPlace {
+		return []string{}, true
+	}
+	return list, false
+}
+
 // readNames reads one or more names with a comma between, and answers true if
 // the text is none such.
 func readNames(text string) ([]string, bool) {
@@ -105,4 +121,12 @@ func placeOf(list []string, name string) int {
 		}
 	}
 	return noPlace
+}
+
+// entryAt is 0 where the list has no such entry.
+func entryAt(list []int, i int) int {
+	if i < 0 || i >= len(list) {
+		return 0
+	}
+	return list[i]
 }

@@ -160,3 +160,55 @@ func TestValues(t *testing.T) {
 		}
 	}
 }
+
+func requestersErrno(text string) trust.Errno {
+	list := strings.Split(text, ",")
+	if text != "" && len(list) > 4 {
+		return trust.ErrList
+	}
+	for _, name := range list {
+		if text != "" && (!isName(name) || name == "POLICY") {
+			return trust.ErrList
+		}
+	}
+	return trust.OK
+}
+
+func TestShortRequesters(t *testing.T) {
+	set := said("POLICY", "a || bb", "true")
+	texts("ab,A1 ", 6, func(text string) {
+		errno := requestersErrno(text)
+		want, row := "", ""
+		if errno == trust.OK {
+			want = "no"
+			for _, name := range strings.Split(text, ",") {
+				if name == "a" || name == "bb" {
+					want, row = "yes", "0"
+				}
+			}
+		}
+		runQueries(t, []queryCase{{set, "", "no,yes", text, want, row, errno}})
+	})
+}
+
+func TestRequesters(t *testing.T) {
+	for _, c := range []struct {
+		reqs  string
+		errno trust.Errno
+	}{
+		{"", trust.OK}, {"A", trust.OK}, {"A,B", trust.OK}, {"A,A", trust.OK}, {"A,A,A,A", trust.OK}, {"A,B,C,D", trust.OK},
+		{"abcdefgh,ABCDEFGH,bcdefghi,cdefghij", trust.OK}, {"policy", trust.OK}, {"Policy,POLIC,POLICYS", trust.OK}, {"true,no,yes", trust.OK},
+		{"POLICY", trust.ErrList}, {"POLICY,A", trust.ErrList}, {"A,POLICY", trust.ErrList}, {"A,B,C,POLICY", trust.ErrList}, {"A,POLICY,B", trust.ErrList},
+		{"A,B,C,D,E", trust.ErrList}, {"A,A,A,A,A", trust.ErrList}, {"A,B,C,D,", trust.ErrList}, {",", trust.ErrList}, {"A,", trust.ErrList}, {",A", trust.ErrList}, {"A,,B", trust.ErrList},
+		{" ", trust.ErrList}, {"A ", trust.ErrList}, {" A", trust.ErrList}, {"A, B", trust.ErrList}, {"A\n", trust.ErrList}, {"A;B", trust.ErrList}, {"A=B", trust.ErrList},
+		{"1", trust.ErrList}, {"A1", trust.ErrList}, {"abcdefghi", trust.ErrList}, {"A,abcdefghi", trust.ErrList}, {"A\xff", trust.ErrList}, {"\x00", trust.ErrList},
+		{strings.Repeat("A", 60), trust.ErrList}, {strings.Repeat(",", 60), trust.ErrList},
+		{strings.Repeat("A", 61), trust.ErrLong}, {strings.Repeat(",", 61), trust.ErrLong}, {"A" + strings.Repeat(" ", 60), trust.ErrLong}, {strings.Repeat("A,", 5000000), trust.ErrLong},
+	} {
+		want := ""
+		if c.errno == trust.OK {
+			want = "no"
+		}
+		runQueries(t, []queryCase{{said("POLICY", "Z", "true"), "", "no,yes", c.reqs, want, "", c.errno}})
+	}
+}

@@ -54,7 +54,7 @@ func Worth(expr string, attrs string) (string, Errno) {
 
 // Cond tells what an assertion's conditions are worth (P6).
 func Cond(set string, k int, attrs string, values string) (string, Errno) {
-	g := readGround(set, attrs, values)
+	g := readGround(set, attrs, values, "")
 	if g.errno != OK {
 		return "", g.errno
 	}
@@ -62,12 +62,26 @@ func Cond(set string, k int, attrs string, values string) (string, Errno) {
 		return "", ErrNone
 	}
 	levels := g.condsLevels()
-	level := levelAt(levels, g.tree.asserts[k].conds)
+	level := entryAt(levels, g.tree.asserts[k].conds)
 	return g.valueAt(level), OK
 }
 
 // Query tells at which value POLICY stands (P7).
-func Query(set string, attrs string, values string, reqs string) (string, Errno) { return "", OK }
+func Query(set string, attrs string, values string, reqs string) (string, Errno) {
+	g := readGround(set, attrs, values, reqs)
+	if g.errno != OK {
+		return "", g.errno
+	}
+	given := g.givenLevels()
+	level := g.standing(policy, given)
+	return g.valueAt(level), OK
+}
 
 // Chain tells by which assertions (P8).
-func Chain(set string, attrs string, values string, reqs string) (string, Errno) { return "", OK }
+func Chain(set string, attrs string, values string, reqs string) (string, Errno) {
+	g := readGround(set, attrs, values, reqs)
+	if g.errno != OK {
+		return "", g.errno
+	}
+	return g.row(), OK
+}
